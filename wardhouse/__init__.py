@@ -1,0 +1,1 @@
+"""Wardhouse: workers under wardens who begin anew by rules."""
