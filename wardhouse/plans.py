@@ -35,9 +35,14 @@ def is_plan(thing):
 def names_of(plan):
     """The list of all names, in the order of the plan."""
     names = [plan[1]]
-    for part in _parts_of(plan):
+    for part in parts_of(plan):
         names.extend(names_of(part))
     return names
+
+
+def parts_of(part):
+    """The parts straight beneath a part; a worker has none."""
+    return part[5] if part[0] == "warden" else ()
 
 
 def _is_number(thing, low, high):
@@ -67,10 +72,6 @@ def _is_warden(thing):
     return isinstance(parts, tuple) and 1 <= len(parts) <= MOST_PARTS
 
 
-def _parts_of(part):
-    return part[5] if part[0] == "warden" else ()
-
-
 def _fits(part, above, names):
     """True where the part, beneath so many wardens, and all beneath it belong in a plan.
 
@@ -84,7 +85,7 @@ def _fits(part, above, names):
     if part[1] in names:
         return False
     names.append(part[1])
-    for inner in _parts_of(part):
+    for inner in parts_of(part):
         if not _fits(inner, above + 1, names):
             return False
     return True
